@@ -1,0 +1,1 @@
+"""Treewithin: small trees led through a great one."""
