@@ -210,6 +210,16 @@ class PlainTest(Truths):
         self.assertEqual(plain((("b", "z"), ("c", "a"))), (("a", "c"), ("b", "z")))
         self.assertEqual(plain((("a", "c"), ("z", "a"))), (("a", "c"), ("a", "z")))
 
+    def test_texts_are_compared_as_they_are_written(self):
+        # In a written tree a bracket comes ahead of a word, at whatever depth the two texts part.
+        one = (("a", "b"), "c")
+        other = ((("d", "e"), "f"), "c")
+        self.assertEqual(plain((one, other)), (other, one))
+        first = ((("a", "a"), "a"), "a")
+        self.assertEqual(
+            plain(((first, ("b", "c")), (first, (("b", "b"), "b")))), ((first, (("b", "b"), "b")), (first, ("b", "c")))
+        )
+
     def test_whichever_way_pairs_are_turned(self):
         for tree in TREES + GREATS:
             if len(leaves(tree)) <= 6:
