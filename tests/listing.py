@@ -1,5 +1,6 @@
 """All ways listed one by one, straight by the words of the document, to hold the program against."""
 
+import collections
 import itertools
 
 
@@ -60,10 +61,7 @@ def all_ways(ground, small):
 def count_of(ground, way):
     """(split, doubled, over, lost) of a way."""
     path, deed = way[:2]
-    own = (
-        int(deed == "split"), int(deed == "doubled"), int(deed == "over"),
-        sum(len(ground[stay][2]) == 2 for stay, below in zip(path, path[1:])),
-    )
+    own = (int(deed == "split"), int(deed == "doubled"), int(deed == "over"), lost_on(ground, path))
     return tuple(sum(four) for four in zip(own, *[count_of(ground, half) for half in way[2:]]))
 
 
@@ -76,3 +74,113 @@ def cost_of(ground, way, prices):
 def least_of(ground, ways, prices):
     """The least that one of the ways costs, None where there is none."""
     return min([cost_of(ground, way, prices) for way in ways], default=None)
+
+
+def least_ways(ground, ways, prices):
+    """Those of the ways that cost the least, as tuples rise."""
+    cost = least_of(ground, ways, prices)
+    return sorted(way for way in ways if cost_of(ground, way, prices) == cost)
+
+
+def kept_ways(ground, small, prices):
+    """The least ways as tuples rise, of a ground too wide to list all: none is kept that costs more from its stay."""
+    known = {}
+
+    def cheapest(pairs):
+        cost = min([cost for cost, way in pairs], default=None)
+        return [pair for pair in pairs if pair[0] == cost]
+
+    def done_from(tree, path):
+        lost = prices[3] * lost_on(ground, path)
+        if isinstance(tree, str):
+            return [(lost, (path, deed)) for deed, ins in doings(ground, tree, path[-1])]
+        told = []
+        for deed, ins in doings(ground, tree, path[-1]):
+            own = {"split": prices[0], "doubled": prices[1], "over": prices[2]}[deed] + lost
+            for (one, first), (other, second) in itertools.product(kept(tree[0], ins[0]), kept(tree[1], ins[1])):
+                told.append((own + one + other, (path, deed, first, second)))
+        return cheapest(told)
+
+    def kept(tree, stay):
+        if (tree, stay) not in known:
+            known[tree, stay] = cheapest(
+                [pair for path in paths_from(ground, stay) for pair in done_from(tree, path)]
+            )
+        return known[tree, stay]
+
+    told = [pair for stay in range(len(ground)) for pair in done_from(small, (stay,))]
+    return sorted(way for cost, way in cheapest(told))
+
+
+def numbered(way):
+    """The ways of the nodes within a way, its own too, as the nodes are numbered."""
+    return [part for half in way[2:] for part in numbered(half)] + [way]
+
+
+def marks_of(way):
+    """The (node, stay, deed) of a way."""
+    return [(node, part[0][-1], part[1]) for node, part in enumerate(numbered(way))]
+
+
+def goings_of(way):
+    """The (node, from, to) of a way."""
+    told = []
+    for node, part in enumerate(numbered(way)):
+        if part[1] == "over":
+            ins = [half[0][0] for half in part[2:]]
+            ins.remove(part[0][-1])
+            told.append((node, part[0][-1], ins[0]))
+    return told
+
+
+def entries_of_way(way):
+    """The (node, stay) at which the nodes of a way come in."""
+    return [(node, part[0][0]) for node, part in enumerate(numbered(way))]
+
+
+def lost_on(ground, path):
+    """How often a path loses."""
+    return sum(len(ground[stay][2]) == 2 for stay in path[:-1])
+
+
+def doings(ground, tree, stay):
+    """For each deed of a tree at a stay where its two come in."""
+    if isinstance(tree, str):
+        return [("found", ())] if ground[stay][0] == tree and not ground[stay][2] else []
+    return entries_of(ground, stay)
+
+
+def many_by_cost(ground, small, prices, takes=lambda node, entry, stay, deed, ins: True):
+    """How many ways of a small tree there are, by what they cost, without listing them.
+
+    Only those count of which each node's number, where it comes in, where it
+    does its deed, this deed, and where its two come in are taken.
+    """
+    known = {}
+    last = len(parts(small)) - 1
+
+    def from_stay(node, tree, entry):
+        if (node, entry) in known:
+            return known[node, entry]
+        told = collections.Counter()
+        for path in [(entry,)] if node == last else paths_from(ground, entry):
+            for deed, ins in doings(ground, tree, path[-1]):
+                if takes(node, entry, path[-1], deed, ins):
+                    own = {"found": 0, "split": prices[0], "doubled": prices[1], "over": prices[2]}[deed]
+                    told.update(onward(node, tree, ins, own + prices[3] * lost_on(ground, path)))
+        known[node, entry] = told
+        return told
+
+    def onward(node, tree, ins, cost):
+        if isinstance(tree, str):
+            return {cost: 1}
+        told = collections.Counter()
+        for one, many in from_stay(node - 1 - len(parts(tree[1])), tree[0], ins[0]).items():
+            for other, more in from_stay(node - 1, tree[1], ins[1]).items():
+                told[cost + one + other] += many * more
+        return told
+
+    told = collections.Counter()
+    for stay in range(len(ground)):
+        told.update(from_stay(last, small, stay))
+    return told

@@ -1,41 +1,15 @@
 import copy
 import unittest
 
+from cases import MOST, PRICES, SMALLS, first_dates, grounds
 from listing import all_ways, least_of, parts, ways_from
 from things import GREATS, nested
 from treewithin.dating import dated
 from treewithin.grounds import ground
 from treewithin.tables import least, table
-from treewithin.trees import leaves, nodes
+from treewithin.trees import leaves
 
-MOST = 10 ** 30 - 1
-PRICES = (
-    (0, 2, 3, 1), (0, 0, 0, 0), (1, 0, 0, 0), (0, 1, 0, 0), (0, 0, 1, 0), (0, 0, 0, 1), (5, 1, 1, 1), (1, 7, 2, 0),
-    (3, 1, 9, 2), (9, 9, 1, 9), (MOST, MOST - 1, MOST - 2, MOST - 3), (0, MOST, 1, MOST),
-)
-SMALLS = (
-    "a", "b", ("a", "a"), ("a", "b"), ("b", "a"), (("a", "b"), "a"), ("b", ("b", "a")), (("a", "b"), ("b", "a")),
-)
 FREE = (("a", "b"), "c")
-
-
-def grounds():
-    """Small grounds, without dates and dated ones."""
-    return [
-        ground(("a", "b")), ground((("a", "b"), "c")), ground(("c", ("b", "a"))), ground((("a", "c"), ("b", "d"))),
-        dated(("a", "b"), (0, 0, 1)), dated((("a", "b"), "c"), (0, 0, 98, 0, 99)),
-        dated((("a", "c"), ("b", "d")), (0, 0, 5, 0, 0, 2, 7)), dated((("a", "c"), ("b", "d")), (0, 0, 1, 0, 0, 2, 3)),
-    ]
-
-
-def first_dates(great):
-    """Dates of a great tree, as its houses are numbered."""
-    date = 0
-    told = []
-    for house in nodes(great):
-        date += not isinstance(house, str)
-        told.append(0 if isinstance(house, str) else date)
-    return tuple(told)
 
 
 class TableTest(unittest.TestCase):

@@ -4,7 +4,7 @@ Counts and prices are tuples of four: of split, doubled, over and lost.
 """
 
 from treewithin.grounds import under_at
-from treewithin.ways import DOUBLED, OVER, SPLIT, ways_within
+from treewithin.ways import DEEDS, ways_within
 
 
 def lost_on(ground, path):
@@ -15,9 +15,9 @@ def lost_on(ground, path):
 def counted(ground, way):
     """How often a way has each: split, doubled, over and lost."""
     parts = ways_within(way)
-    deeds = [part[1] for part in parts]
+    done = [part[1] for part in parts]
     lost = sum([lost_on(ground, part[0]) for part in parts])
-    return (deeds.count(SPLIT), deeds.count(DOUBLED), deeds.count(OVER), lost)
+    return tuple([done.count(deed) for deed in DEEDS] + [lost])
 
 
 def priced(prices, count):

@@ -1,8 +1,8 @@
 """Dates of a great tree, and its dated ground."""
 
-from treewithin.grounds import name_of, split_of
+from treewithin.grounds import name_of
 from treewithin.kinds import is_row, is_whole
-from treewithin.trees import ahead_of, is_great, nodes
+from treewithin.trees import ahead_of, halves, is_great, nodes
 
 LAST_DATE = 99
 
@@ -49,7 +49,7 @@ def stay_of(houses, dates, begins, numbers, pair):
     house = pair[0]
     layer = pair[1]
     goes_on = dates[house] < begins[layer]
-    below = (house,) if goes_on else split_of(houses, house)
+    below = (house,) if goes_on else halves(houses[house])
     under = tuple([numbers[(each, layer - 1)] for each in below])
     beside = tuple([numbers[far] for far in numbers if far[1] == layer and far[0] != house])
     return (name_of(houses, house), layer, under, beside)

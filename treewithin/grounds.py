@@ -1,6 +1,6 @@
 """Grounds: stays (name, slice, under, beside), and the ground without dates."""
 
-from treewithin.trees import ahead_of, nodes
+from treewithin.trees import ahead_of, halves, nodes
 
 NAME = 0
 UNDER = 2
@@ -27,11 +27,6 @@ def name_of(houses, house):
     return houses[house] if isinstance(houses[house], str) else house
 
 
-def split_of(houses, house):
-    """The houses into which a house splits, none of a leaf."""
-    return () if isinstance(houses[house], str) else houses[house]
-
-
 def lines_up(great):
     """For each house the tuple of itself and all houses above it."""
     ahead = ahead_of(great)
@@ -53,6 +48,6 @@ def ground(great):
     houses = nodes(great)
     lines = lines_up(great)
     return tuple([
-        (name_of(houses, house), 0, split_of(houses, house), apart_from(lines, house))
+        (name_of(houses, house), 0, halves(houses[house]), apart_from(lines, house))
         for house in range(len(houses))
     ])

@@ -3,15 +3,16 @@
 Prices are a tuple of four: of split, doubled, over and lost.
 """
 
-from treewithin.grounds import beside_at, is_home, under_at
-from treewithin.trees import nodes
+from treewithin.grounds import under_at
+from treewithin.trees import halves, nodes
+from treewithin.ways import DEEDS, deeds_at
+
+LOST = 3
 
 
-def added(price, one, other):
-    """What a deed costs with the two that come of it, None where there is none of either."""
-    if one is None or other is None:
-        return None
-    return price + one + other
+def summed(costs):
+    """What all cost together, None where there is none of one of them."""
+    return None if None in costs else sum(costs)
 
 
 def cheapest(costs):
@@ -19,38 +20,31 @@ def cheapest(costs):
     return min([cost for cost in costs if cost is not None], default=None)
 
 
-def split_costs(ground, price, one, other, stay):
-    """What it costs to split at a stay, either way about, of the rows of the two."""
-    under = under_at(ground, stay)
-    if len(under) != 2:
-        return []
-    return [added(price, one[under[0]], other[under[1]]), added(price, one[under[1]], other[under[0]])]
+def price_of(prices, deed):
+    """What a deed itself costs."""
+    return prices[DEEDS.index(deed)] if deed in DEEDS else 0
 
 
-def over_costs(ground, price, one, other, stay):
-    """What it costs that the other goes over from a stay, of the rows of the two."""
-    return [added(price, one[stay], other[far]) for far in beside_at(ground, stay)]
+def deed_cost(prices, rows, node, deed):
+    """What one of deeds_at costs with all that comes of it, of the rows so far."""
+    onward = [rows[half][stay] for half, stay in zip(halves(node), deed[1])]
+    return summed([price_of(prices, deed[0])] + onward)
 
 
 def deed_costs(ground, prices, rows, node, stay):
     """What each deed of a node at a stay costs at the least, of the rows so far."""
-    if isinstance(node, str):
-        return [0] if is_home(ground, stay, node) else []
-    one = rows[node[0]]
-    other = rows[node[1]]
-    return (
-        split_costs(ground, prices[0], one, other, stay)
-        + [added(prices[1], one[stay], other[stay])]
-        + over_costs(ground, prices[2], one, other, stay)
-        + over_costs(ground, prices[2], other, one, stay)
-    )
+    return [deed_cost(prices, rows, node, deed) for deed in deeds_at(ground, node, stay)]
 
 
-def step_costs(ground, price, row, stay):
+def step_cost(ground, prices, stay):
+    """What a step from a stay to one under it costs itself."""
+    return prices[LOST] if len(under_at(ground, stay)) == 2 else 0
+
+
+def step_costs(ground, prices, row, stay):
     """What it costs to step from a stay to one under it, of the row so far."""
-    under = under_at(ground, stay)
-    lost = price if len(under) == 2 else 0
-    return [added(lost, row[below], 0) for below in under]
+    own = step_cost(ground, prices, stay)
+    return [summed([own, row[below]]) for below in under_at(ground, stay)]
 
 
 def row_of(ground, prices, rows, node):
@@ -58,7 +52,7 @@ def row_of(ground, prices, rows, node):
     row = []
     # What lies under a stay has the lesser number, so its entry is there already.
     for stay in range(len(ground)):
-        costs = deed_costs(ground, prices, rows, node, stay) + step_costs(ground, prices[3], row, stay)
+        costs = deed_costs(ground, prices, rows, node, stay) + step_costs(ground, prices, row, stay)
         row.append(cheapest(costs))
     return tuple(row)
 

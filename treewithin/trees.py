@@ -78,6 +78,11 @@ def nodes(tree):
     return tuple(told)
 
 
+def halves(node):
+    """The numbers of the one and the other of a node as nodes tells it, none of a leaf."""
+    return () if isinstance(node, str) else node
+
+
 def leaves(tree):
     """The words of the leaves, as they are numbered."""
     return tuple([part for part in parts_of(tree) if isinstance(part, str)])
@@ -88,9 +93,8 @@ def ahead_of(tree):
     told = nodes(tree)
     ahead = [None for node in told]
     for number, node in enumerate(told):
-        if not isinstance(node, str):
-            ahead[node[0]] = number
-            ahead[node[1]] = number
+        for half in halves(node):
+            ahead[half] = number
     return tuple(ahead)
 
 

@@ -2,12 +2,14 @@
 
 from treewithin.grounds import beside_at, is_home, under_at
 from treewithin.kinds import is_row, is_whole
-from treewithin.trees import is_tree, nodes
+from treewithin.trees import halves, is_tree, nodes
 
 FOUND = "found"
 SPLIT = "split"
 DOUBLED = "doubled"
 OVER = "over"
+# The deeds that have prices, in the order of these.
+DEEDS = ("split", "doubled", "over")
 
 
 def comes_in(way):
@@ -18,6 +20,27 @@ def comes_in(way):
 def done_at(way):
     """The stay at which a way's deed is done."""
     return way[0][-1]
+
+
+def split_ins(ground, stay):
+    """Where two come in that come of a split at a stay: pairs, one for either way about."""
+    under = under_at(ground, stay)
+    return [under, (under[1], under[0])] if len(under) == 2 else []
+
+
+def over_ins(ground, stay):
+    """Where two come in of which one stays at a stay and the other goes over from it: pairs."""
+    beside = beside_at(ground, stay)
+    return [(stay, far) for far in beside] + [(far, stay) for far in beside]
+
+
+def deeds_at(ground, node, stay):
+    """What a node may do at a stay, rising: (deed, ins), ins the stays at which its two come in, none of a leaf."""
+    if isinstance(node, str):
+        return [(FOUND, ())] if is_home(ground, stay, node) else []
+    split = [(SPLIT, ins) for ins in split_ins(ground, stay)]
+    over = [(OVER, ins) for ins in over_ins(ground, stay)]
+    return sorted([(DOUBLED, (stay, stay))] + split + over)
 
 
 def is_stay(ground, thing):
@@ -50,36 +73,15 @@ def ways_of_nodes(ground, told, thing):
         way = ways[number]
         if not is_formed(ground, node, way):
             return None
-        if not isinstance(node, str):
-            ways[node[0]] = way[2]
-            ways[node[1]] = way[3]
+        for half, part in zip(halves(node), way[2:]):
+            ways[half] = part
     return ways
-
-
-def is_split(ground, stay, one, other):
-    """Whether two that come in there come of a split at the stay."""
-    return under_at(ground, stay) in ((one, other), (other, one))
-
-
-def is_over(ground, stay, one, other):
-    """Whether of two that come in there either stays at the stay, and the other goes over from it."""
-    beside = beside_at(ground, stay)
-    return (one == stay and other in beside) or (other == stay and one in beside)
 
 
 def is_done(ground, node, way):
     """Whether a formed way of a node, whose two are formed too, does its deed as it should."""
-    stay = done_at(way)
-    deed = way[1]
-    if isinstance(node, str):
-        return deed == FOUND and is_home(ground, stay, node)
-    one = comes_in(way[2])
-    other = comes_in(way[3])
-    if deed == DOUBLED:
-        return one == stay and other == stay
-    if deed == SPLIT:
-        return is_split(ground, stay, one, other)
-    return deed == OVER and is_over(ground, stay, one, other)
+    ins = tuple([comes_in(half) for half in way[2:]])
+    return (way[1], ins) in deeds_at(ground, node, done_at(way))
 
 
 def is_way(ground, small, thing):

@@ -1,0 +1,70 @@
+"""Grounds, small trees and prices that several tests go through."""
+
+from things import GREATS
+from treewithin.dating import dated
+from treewithin.grounds import ground
+from treewithin.trees import leaves, nodes
+
+MOST = 10 ** 30 - 1
+PRICES = (
+    (0, 2, 3, 1), (0, 0, 0, 0), (1, 0, 0, 0), (0, 1, 0, 0), (0, 0, 1, 0), (0, 0, 0, 1), (5, 1, 1, 1), (1, 7, 2, 0),
+    (3, 1, 9, 2), (9, 9, 1, 9), (1, 1, 1, 1), (MOST, MOST - 1, MOST - 2, MOST - 3), (0, MOST, 1, MOST),
+)
+SMALLS = (
+    "a", "b", ("a", "a"), ("a", "b"), ("b", "a"), (("a", "b"), "a"), ("b", ("b", "a")), (("a", "b"), ("b", "a")),
+)
+
+
+def grounds():
+    """Small grounds, without dates and dated ones, on which all ways can be listed."""
+    return [
+        ground(("a", "b")), ground((("a", "b"), "c")), ground(("c", ("b", "a"))), ground((("a", "c"), ("b", "d"))),
+        dated(("a", "b"), (0, 0, 1)), dated((("a", "b"), "c"), (0, 0, 98, 0, 99)),
+        dated((("a", "c"), ("b", "d")), (0, 0, 5, 0, 0, 2, 7)), dated((("a", "c"), ("b", "d")), (0, 0, 1, 0, 0, 2, 3)),
+    ]
+
+
+def first_dates(great):
+    """Dates of a great tree, as its houses are numbered."""
+    date = 0
+    told = []
+    for house in nodes(great):
+        date += not isinstance(house, str)
+        told.append(0 if isinstance(house, str) else date)
+    return tuple(told)
+
+
+def woven(words, many):
+    """A small tree of so many leaves, of all these words in turn."""
+    parts = [words[(5 * place + place // len(words)) % len(words)] for place in range(many)]
+    while len(parts) > 1:
+        parts = parts[2:] + [(parts[0], parts[1])]
+    return parts[0]
+
+
+def wide_cases():
+    """(great, ground, small) for great trees of one to eight leaves, small ones of one to ten, without dates and dated."""
+    told = []
+    for turn, great in enumerate(GREATS):
+        for many in (1 + turn % 10, 10 - turn % 3):
+            small = woven(leaves(great), many)
+            told += [(great, ground(great), small), (great, dated(great, first_dates(great)), small)]
+    return told
+
+
+# Two paths cost as much from the stay where the one of the last node comes in, and no deed is done there as cheaply.
+FORKED = (
+    dated(
+        ((("a", "b"), ("c", "d")), (("e", "f"), ("g", "h"))), (0, 0, 4, 0, 0, 3, 6, 0, 0, 2, 0, 0, 1, 5, 7),
+    ),
+    ((("a", "c"), "e"), (("e", "f"), ("g", "h"))),
+    (0, 99, 3, 2),
+)
+
+
+def kept_cases():
+    """(ground, small, prices) on wide grounds with few least ways, which can be listed by kept_ways."""
+    told = [FORKED]
+    for great, stays, small in wide_cases():
+        told += [(stays, small, (0, 2, 3, 1)), (stays, small, (3, 1, 9, 2)), (stays, small, (0, MOST, 1, MOST))]
+    return told
