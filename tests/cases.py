@@ -10,6 +10,7 @@ PRICES = (
     (0, 2, 3, 1), (0, 0, 0, 0), (1, 0, 0, 0), (0, 1, 0, 0), (0, 0, 1, 0), (0, 0, 0, 1), (5, 1, 1, 1), (1, 7, 2, 0),
     (3, 1, 9, 2), (9, 9, 1, 9), (1, 1, 1, 1), (MOST, MOST - 1, MOST - 2, MOST - 3), (0, MOST, 1, MOST),
 )
+DEEDS = ("split", "doubled", "over")
 SMALLS = (
     "a", "b", ("a", "a"), ("a", "b"), ("b", "a"), (("a", "b"), "a"), ("b", ("b", "a")), (("a", "b"), ("b", "a")),
 )
@@ -68,3 +69,14 @@ def kept_cases():
     for great, stays, small in wide_cases():
         told += [(stays, small, (0, 2, 3, 1)), (stays, small, (3, 1, 9, 2)), (stays, small, (0, MOST, 1, MOST))]
     return told
+
+
+def with_price(prices, deed, price):
+    """The prices, the deed's being this one."""
+    place = DEEDS.index(deed)
+    return prices[:place] + (price,) + prices[place + 1:]
+
+
+def prices_at(prices, deed, p, q):
+    """The prices q times as great, the deed's being p."""
+    return with_price(tuple(q * price for price in prices), deed, p)

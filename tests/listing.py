@@ -184,3 +184,84 @@ def many_by_cost(ground, small, prices, takes=lambda node, entry, stay, deed, in
     for stay in range(len(ground)):
         told.update(from_stay(last, small, stay))
     return told
+
+
+def all_dates(great):
+    """All dates of a great tree of the numbers from 1 on, one for each order in which its houses may split."""
+    trees = parts(great)
+    splits = [house for house, tree in enumerate(trees) if not isinstance(tree, str)]
+    under = {house: (house - 1 - len(parts(trees[house][1])), house - 1) for house in splits}
+    told = []
+    for order in itertools.permutations(range(1, len(splits) + 1)):
+        dates = dict(zip(splits, order))
+        if all(dates[house] > dates.get(half, 0) for house in splits for half in under[house]):
+            told.append(tuple(dates.get(house, 0) for house in range(len(trees))))
+    return told
+
+
+def houses_of(great, stays):
+    """For each stay of a dated ground the number of its house."""
+    trees = parts(great)
+    return [trees.index(stay[0]) if isinstance(stay[0], str) else stay[0] for stay in stays]
+
+
+def once(path):
+    """A path of houses without those at which it stays."""
+    return tuple(house for house, others in itertools.groupby(path))
+
+
+def may_be_led(great, stays, way):
+    """Whether there is a way of a dated ground that is the same as one without dates, but for slices."""
+    houses = houses_of(great, stays)
+
+    def leads(part, path):
+        if once(houses[stay] for stay in path) != part[0]:
+            return False
+        if part[1] == "found":
+            return not stays[path[-1]][2]
+        return any(
+            deed == part[1] and comes(part[2], ins[0]) and comes(part[3], ins[1])
+            for deed, ins in entries_of(stays, path[-1])
+        )
+
+    def comes(part, stay):
+        if (part, stay) not in known:
+            known[part, stay] = any(leads(part, path) for path in paths_from(stays, stay))
+        return known[part, stay]
+
+    known = {}
+    return any(leads(way, (stay,)) for stay in range(len(stays)))
+
+
+def numbers_of_halves(tree, node):
+    """The numbers of the one and the other of the node with this number, whose tree it is."""
+    return () if isinstance(tree, str) else (node - 1 - len(parts(tree[1])), node - 1)
+
+
+def more(entry):
+    """An entry as a number, None more than all."""
+    return float("inf") if entry is None else entry
+
+
+def holds(ground, small, prices, rows):
+    """Whether each entry is no more than any that is put together, by the words of the document."""
+    cost = {"found": 0, "split": prices[0], "doubled": prices[1], "over": prices[2]}
+    for node, tree in enumerate(parts(small)):
+        for stay in range(len(ground)):
+            bounds = []
+            for deed, ins in doings(ground, tree, stay):
+                onward = [rows[half][place] for half, place in zip(numbers_of_halves(tree, node), ins)]
+                if None not in onward:
+                    bounds.append(cost[deed] + sum(onward))
+            for below in ground[stay][2]:
+                if rows[node][below] is not None:
+                    bounds.append(rows[node][below] + (prices[3] if len(ground[stay][2]) == 2 else 0))
+            if any(more(rows[node][stay]) > bound for bound in bounds):
+                return False
+    return True
+
+
+def taken(ground, small, prices, way, rows):
+    """What shows_least is to tell of a way and of rows."""
+    cost = cost_of(ground, way, prices)
+    return holds(ground, small, prices, rows) and all(cost <= more(entry) for entry in rows[-1])

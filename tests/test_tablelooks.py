@@ -2,7 +2,7 @@ import copy
 import unittest
 
 from cases import MOST, PRICES, SMALLS, grounds, wide_cases
-from listing import all_ways, cost_of, doings, least_of, least_ways, parts
+from listing import all_ways, cost_of, least_of, least_ways, taken
 from things import Equal, Grim, nested, odd_things
 from treewithin.dating import dated
 from treewithin.grounds import ground
@@ -25,39 +25,6 @@ def with_entry(rows, node, stay, entry):
 def each_entry(rows):
     """(node, stay, entry) of all entries."""
     return [(node, stay, entry) for node, row in enumerate(rows) for stay, entry in enumerate(row)]
-
-
-def numbers_of_halves(tree, node):
-    """The numbers of the one and the other of the node with this number, whose tree it is."""
-    return () if isinstance(tree, str) else (node - 1 - len(parts(tree[1])), node - 1)
-
-
-def more(entry):
-    return ENDLESS if entry is None else entry
-
-
-def holds(stays, small, prices, rows):
-    """Whether each entry is no more than any that is put together, by the words of the document."""
-    cost = {"found": 0, "split": prices[0], "doubled": prices[1], "over": prices[2]}
-    for node, tree in enumerate(parts(small)):
-        for stay in range(len(stays)):
-            bounds = []
-            for deed, ins in doings(stays, tree, stay):
-                onward = [rows[half][place] for half, place in zip(numbers_of_halves(tree, node), ins)]
-                if None not in onward:
-                    bounds.append(cost[deed] + sum(onward))
-            for below in stays[stay][2]:
-                if rows[node][below] is not None:
-                    bounds.append(rows[node][below] + (prices[3] if len(stays[stay][2]) == 2 else 0))
-            if any(more(rows[node][stay]) > bound for bound in bounds):
-                return False
-    return True
-
-
-def taken(stays, small, prices, way, rows):
-    """What shows_least is to tell of a way and of rows."""
-    cost = cost_of(stays, way, prices)
-    return holds(stays, small, prices, rows) and all(cost <= more(entry) for entry in rows[-1])
 
 
 def misshapen(rows):

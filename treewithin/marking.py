@@ -8,7 +8,7 @@ tells it.
 from treewithin.leastways import LeastWays
 from treewithin.numbers import Counts, how_many, many_by
 from treewithin.trees import halves, nodes
-from treewithin.ways import OVER
+from treewithin.ways import OVER, gone_to
 
 
 def spread(steps, around):
@@ -70,11 +70,6 @@ def shared(ground, small, prices):
     """The marks that all least ways have, rising."""
     total = how_many(ground, small, prices)
     return tuple([mark for mark, many in marks(ground, small, prices) if many == total])
-
-
-def gone_to(stay, ins):
-    """Where that of two comes in that goes over from a stay."""
-    return ins[1] if ins[0] == stay else ins[0]
 
 
 def goings(ground, small, prices):

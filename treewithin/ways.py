@@ -22,6 +22,16 @@ def done_at(way):
     return way[0][-1]
 
 
+def ins_of(way):
+    """The stays at which the two of a way come in, none of a leaf's."""
+    return tuple([comes_in(half) for half in way[2:]])
+
+
+def gone_to(stay, ins):
+    """Where that of two comes in that goes over from a stay."""
+    return ins[1] if ins[0] == stay else ins[0]
+
+
 def split_ins(ground, stay):
     """Where two come in that come of a split at a stay: pairs, one for either way about."""
     under = under_at(ground, stay)
@@ -80,8 +90,7 @@ def ways_of_nodes(ground, told, thing):
 
 def is_done(ground, node, way):
     """Whether a formed way of a node, whose two are formed too, does its deed as it should."""
-    ins = tuple([comes_in(half) for half in way[2:]])
-    return (way[1], ins) in deeds_at(ground, node, done_at(way))
+    return (way[1], ins_of(way)) in deeds_at(ground, node, done_at(way))
 
 
 def is_way(ground, small, thing):
