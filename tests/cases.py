@@ -3,6 +3,7 @@
 from things import GREATS
 from treewithin.dating import dated
 from treewithin.grounds import ground
+from treewithin.numbers import how_many, way_at
 from treewithin.trees import leaves, nodes
 
 MOST = 10 ** 30 - 1
@@ -14,6 +15,17 @@ DEEDS = ("split", "doubled", "over")
 SMALLS = (
     "a", "b", ("a", "a"), ("a", "b"), ("b", "a"), (("a", "b"), "a"), ("b", ("b", "a")), (("a", "b"), ("b", "a")),
 )
+
+
+TIMED_GREATS = (
+    (("a", "b"), ("c", "d")), ((("a", "b"), "c"), "d"), ("d", ("a", ("b", "c"))), ((("a", "b"), "c"), ("d", "e")),
+    ((("a", "b"), ("c", "d")), ("e", "f")),
+)
+TIMED_SMALLS = (
+    "a", ("a", "b"), ("a", "a"), ("a", ("c", "b")), (("a", "c"), ("c", "a")), ((("a", "c"), "b"), ("d", "c")),
+    (("a", "d"), (("c", "b"), "a")), ((("a", "c"), ("b", "d")), (("c", "a"), "d")),
+)
+FREE = (0, 0, 0, 0)
 
 
 def grounds():
@@ -68,6 +80,22 @@ def kept_cases():
     told = [FORKED]
     for great, stays, small in wide_cases():
         told += [(stays, small, (0, 2, 3, 1)), (stays, small, (3, 1, 9, 2)), (stays, small, (0, MOST, 1, MOST))]
+    return told
+
+
+def some_ways(great, small, many):
+    """So many ways of a small tree, spread over all that there are: they all cost nothing."""
+    stays = ground(great)
+    total = how_many(stays, small, FREE)
+    return [way_at(stays, small, FREE, k) for k in sorted({total * turn // many for turn in range(many)})]
+
+
+def timed_ways():
+    """(great, small, way) of ways of all kinds, on great trees of which all dates can be listed."""
+    told = []
+    for great in TIMED_GREATS:
+        for small in TIMED_SMALLS:
+            told += [(great, small, way) for way in some_ways(great, small, 25)]
     return told
 
 

@@ -238,6 +238,79 @@ def numbers_of_halves(tree, node):
     return () if isinstance(tree, str) else (node - 1 - len(parts(tree[1])), node - 1)
 
 
+def above_of(tree):
+    """For each node the number of the node ahead of it, None of the last one."""
+    trees = parts(tree)
+    above = {half: node for node, part in enumerate(trees) for half in numbers_of_halves(part, node)}
+    return [above.get(node) for node in range(len(trees))]
+
+
+def listed_links(great, small, way):
+    """The links, by the words of the document."""
+    trees = parts(great)
+    above = above_of(great)
+    ways = numbered(way)
+    moments = []
+    for number, part in enumerate(ways):
+        if part[1] == "split":
+            moments.append(("house", part[0][-1]))
+        else:
+            moments.append(None if part[1] == "found" else ("thing", number))
+    told = set()
+    for number, tree in enumerate(trees):
+        if isinstance(tree, tuple) and above[number] is not None:
+            told.add((("house", above[number]), ("house", number)))
+    for number, above_it in enumerate(above_of(small)):
+        if above_it is not None and moments[number] is not None:
+            told.add((moments[above_it], moments[number]))
+    for number, part in enumerate(ways):
+        if part[1] in ("doubled", "over"):
+            held = {part[0][-1]}
+            if part[1] == "over":
+                held |= {half[0][0] for half in part[2:]}
+            for place in held:
+                if above[place] is not None:
+                    told.add((("house", above[place]), ("thing", number)))
+                if isinstance(trees[place], tuple):
+                    told.add((("thing", number), ("house", place)))
+    return tuple(sorted(told))
+
+
+def is_same(great, stays, way, other):
+    """Whether a way of a dated ground is one without dates but for slices."""
+    houses = houses_of(great, stays)
+    pairs = list(zip(numbered(way), numbered(other)))
+    return len(numbered(way)) == len(numbered(other)) and all(
+        once(houses[stay] for stay in led[0]) == part[0] and led[1] == part[1] for part, led in pairs
+    )
+
+
+def same_ways(great, stays, way):
+    """All ways of a dated ground that are one without dates but for slices, without listing all others."""
+    houses = houses_of(great, stays)
+    known = {}
+
+    def behind(part, path):
+        if once(houses[stay] for stay in path) != part[0]:
+            return []
+        if part[1] == "found":
+            return [("found",)] if not stays[path[-1]][2] else []
+        told = []
+        for deed, ins in entries_of(stays, path[-1]):
+            if deed == part[1]:
+                told += [(deed, *pair) for pair in itertools.product(comes(part[2], ins[0]), comes(part[3], ins[1]))]
+        return told
+
+    def comes(part, stay):
+        if houses[stay] != part[0][0]:
+            return []
+        if (part, stay) not in known:
+            known[part, stay] = [(path, *rest) for path in paths_from(stays, stay) for rest in behind(part, path)]
+        return known[part, stay]
+
+    return [((stay,), *rest) for stay in range(len(stays)) for rest in behind(way, (stay,))]
+
+
 def more(entry):
     """An entry as a number, None more than all."""
     return float("inf") if entry is None else entry

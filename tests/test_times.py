@@ -1,24 +1,18 @@
 import copy
 import unittest
 
-from cases import PRICES, wide_cases
-from listing import all_dates, all_ways, may_be_led, numbered, parts
+from cases import PRICES, some_ways, timed_ways, wide_cases
+from listing import all_dates, all_ways, listed_links, may_be_led
 from things import GREATS
 from treewithin.dating import dated, is_dates
 from treewithin.grounds import ground
-from treewithin.numbers import how_many, way_at
+from treewithin.numbers import way_at
 from treewithin.times import in_time, links
-from treewithin.trees import ahead_of
 from treewithin.ways import is_way
 
 GREAT = (("a", "b"), ("c", "d"))
 # Houses: a 0, b 1, (a,b) 2, c 3, d 4, (c,d) 5, the last one 6.
 HOUSES = ((("house", 6), ("house", 2)), (("house", 6), ("house", 5)))
-SMALLS = (
-    "a", ("a", "b"), ("a", "a"), ("a", ("c", "b")), (("a", "c"), ("c", "a")), ((("a", "c"), "b"), ("d", "c")),
-    (("a", "d"), (("c", "b"), "a")), ((("a", "c"), ("b", "d")), (("c", "a"), "d")),
-)
-FREE = (0, 0, 0, 0)
 
 
 def leaf(*path):
@@ -31,54 +25,6 @@ def house(number):
 
 def thing(number):
     return ("thing", number)
-
-
-def some_ways(great, small, many):
-    """So many ways of a small tree, spread over all that there are: they all cost nothing."""
-    stays = ground(great)
-    total = how_many(stays, small, FREE)
-    return [way_at(stays, small, FREE, k) for k in sorted({total * turn // many for turn in range(many)})]
-
-
-def timed_ways():
-    """(great, small, way) of ways of all kinds, on great trees of which all dates can be listed."""
-    told = []
-    for great in (GREAT, ((("a", "b"), "c"), "d"), ("d", ("a", ("b", "c"))), ((("a", "b"), "c"), ("d", "e")),
-                  ((("a", "b"), ("c", "d")), ("e", "f"))):
-        for small in SMALLS:
-            told += [(great, small, way) for way in some_ways(great, small, 25)]
-    return told
-
-
-def listed_links(great, small, way):
-    """The links, by the words of the document."""
-    trees = parts(great)
-    above = ahead_of(great)
-    ways = numbered(way)
-    moments = []
-    for number, part in enumerate(ways):
-        if part[1] == "split":
-            moments.append(house(part[0][-1]))
-        else:
-            moments.append(None if part[1] == "found" else thing(number))
-    told = set()
-    for number, tree in enumerate(trees):
-        if isinstance(tree, tuple) and above[number] is not None:
-            told.add((house(above[number]), house(number)))
-    for number, above_it in enumerate(ahead_of(small)):
-        if above_it is not None and moments[number] is not None:
-            told.add((moments[above_it], moments[number]))
-    for number, part in enumerate(ways):
-        if part[1] in ("doubled", "over"):
-            held = {part[0][-1]}
-            if part[1] == "over":
-                held |= {half[0][0] for half in part[2:]}
-            for place in held:
-                if above[place] is not None:
-                    told.add((house(above[place]), thing(number)))
-                if isinstance(trees[place], tuple):
-                    told.add((thing(number), house(place)))
-    return tuple(sorted(told))
 
 
 class LinksTest(unittest.TestCase):
